@@ -1,0 +1,1 @@
+"""Keepwhole: makes of a thing, kept whole or as changes of another make."""
