@@ -5,7 +5,7 @@ import random
 import unittest
 
 from keepwhole.changes import change_size, changed, is_change, joined, least_change, whole_size
-from tests.anything import asked, nested, never_right, spoiled
+from tests.helper import asked, nested, never_right, spoiled
 
 OLD = (5, 6, 7, 5)
 

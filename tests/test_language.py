@@ -2,9 +2,12 @@
 
 import ast
 import builtins
+import io
 import pathlib
 import re
+import tokenize
 import unittest
+import warnings
 
 PACKAGE = pathlib.Path(__file__).resolve().parent.parent / "keepwhole"
 
@@ -31,6 +34,18 @@ STATEMENTS = (
     ast.AsyncFunctionDef, ast.GeneratorExp, ast.NamedExpr, ast.Div, ast.MatMult, ast.Import,
 )
 
+UNUSED = set("""
+    register mro elements open input version_info with_traceback add_note attrgetter breakpoint builtins compile
+    copyright credits delattr dir eval exec exit gc getattr globals hasattr help id importlib license locals
+    methodcaller os quit setattr super type vars sys
+""".split())
+
+AT_ONCE = {"zip", "enumerate", "reversed", "range", "items", "keys", "values"}
+
+TAKES_AT_ONCE = {
+    "list", "tuple", "dict", "sorted", "sum", "any", "all", "enumerate", "zip", "bytes", "min", "max", "join", "len",
+    "reversed"}
+
 DOUBLE = {"__init__", "__eq__", "__repr__", "__str__", "__len__", "__all__", "__version__", "__name__"}
 
 FILES = sorted(path for path in PACKAGE.iterdir() if path.name != "__pycache__")
@@ -40,6 +55,20 @@ def each_node():
     for path in FILES:
         for node in ast.walk(ast.parse(path.read_text())):
             yield path, node
+
+
+def each_with_parent():
+    for path in FILES:
+        for parent in ast.walk(ast.parse(path.read_text())):
+            for node in ast.iter_child_nodes(parent):
+                yield path, parent, node
+
+
+def called(node):
+    """The name that a call calls; None for what is no call."""
+    if not isinstance(node, ast.Call):
+        return None
+    return getattr(node.func, "id", None) or getattr(node.func, "attr", None)
 
 
 class Language(unittest.TestCase):
@@ -132,6 +161,85 @@ class Language(unittest.TestCase):
                 self.assertFalse(hasattr(builtins, node.arg), where)
             if isinstance(node, ast.Call) and isinstance(node.func, ast.Attribute):
                 self.assertIn(node.func.attr, METHODS | own | DOUBLE, where)
+            if path.name != "__main__.py":
+                names = [getattr(node, field, None) for field in ("id", "arg", "name", "asname")]
+                for name in names:
+                    self.assertNotIn(name if isinstance(name, str) else "", UNUSED, where)
+
+    def test_both_pythons_read_it_without_a_warning(self):
+        for path in FILES:
+            with warnings.catch_warnings():
+                warnings.simplefilter("error")
+                compile(path.read_text(), path.name, "exec")
+            ast.parse(path.read_text(), path.name, feature_version=(3, 11))
+
+    def test_one_binding_for_each_name(self):
+        for path in FILES:
+            body = ast.parse(path.read_text()).body
+            aliases = [alias for node in body if isinstance(node, ast.ImportFrom) for alias in node.names]
+            imports = [alias.asname or alias.name for alias in aliases]
+            classes = [node.name for node in body if isinstance(node, ast.ClassDef)]
+            functions = [node.name for node in body if isinstance(node, ast.FunctionDef)]
+            values = [name.id for node in body if isinstance(node, ast.Assign) for name in node.targets]
+            bound = imports + classes + functions + values
+            self.assertEqual(len(bound), len(set(bound)), path.name)
+            for function in ast.walk(ast.parse(path.read_text())):
+                if isinstance(function, (ast.FunctionDef, ast.Lambda)):
+                    for node in ast.walk(function):
+                        local = node.arg if isinstance(node, ast.arg) else None
+                        if isinstance(node, ast.Name) and isinstance(node.ctx, ast.Store):
+                            local = node.id
+                        self.assertNotIn(local, imports + classes, self.at(path, node))
+                        self.assertFalse(local is not None and hasattr(builtins, local), self.at(path, node))
+
+    def test_comprehensions_stand_in_functions(self):
+        for path in FILES:
+            for statement in ast.parse(path.read_text()).body:
+                for node in ast.walk(statement):
+                    if not isinstance(statement, (ast.FunctionDef, ast.ClassDef)):
+                        self.assertNotIsInstance(node, (ast.ListComp, ast.DictComp, ast.SetComp, ast.Set, ast.Lambda))
+
+    def test_sets_are_used_on_the_spot(self):
+        for path, parent, node in each_with_parent():
+            if isinstance(node, (ast.SetComp, ast.Set)) or called(node) in ("set", "frozenset"):
+                self.assertNotEqual(called(node), "frozenset", self.at(path, node))
+                right = isinstance(parent, (ast.Compare, ast.Assign)) or called(parent) in ("len", "sorted")
+                self.assertTrue(right, self.at(path, node))
+
+    def test_iterated_at_once(self):
+        for path, parent, node in each_with_parent():
+            if called(node) in AT_ONCE:
+                loop = isinstance(parent, (ast.For, ast.comprehension)) and parent.iter is node
+                inside = isinstance(parent, ast.Compare) and isinstance(parent.ops[0], (ast.In, ast.NotIn))
+                self.assertTrue(loop or inside or called(parent) in TAKES_AT_ONCE, self.at(path, node))
+
+    def test_errors(self):
+        for path, node in each_node():
+            if isinstance(node, ast.ExceptHandler):
+                self.assertIsNotNone(node.type, self.at(path, node))
+                for name in ast.walk(node.type):
+                    self.assertNotIn(getattr(name, "id", ""), ("Exception", "TypeError"), self.at(path, node))
+            if isinstance(node, ast.Raise) and node.exc is not None:
+                self.assertIsInstance(node.exc, ast.Call, self.at(path, node))
+
+    def test_numbers_and_strings(self):
+        for path, node in each_node():
+            if isinstance(node, ast.BinOp) and isinstance(node.op, ast.Pow):
+                self.assertIsInstance(node.right, ast.Constant, self.at(path, node))
+                self.assertIn(node.right.value, range(65), self.at(path, node))
+        for path in FILES:
+            for token in tokenize.generate_tokens(io.StringIO(path.read_text()).readline):
+                if token.type == tokenize.STRING and not token.string.startswith("b"):
+                    self.assertEqual(re.sub(r"\\[nt\\'\"]", "", token.string).count("\\"), 0, (path.name, token.start))
+
+    def test_attributes_are_assigned_by_a_class(self):
+        assigned = set()
+        for path, node in each_node():
+            if isinstance(node, ast.Attribute) and isinstance(node.ctx, ast.Store):
+                assigned.add(node.attr)
+        for path, parent, node in each_with_parent():
+            if isinstance(node, ast.Attribute) and not (isinstance(parent, ast.Call) and parent.func is node):
+                self.assertIn(node.attr, assigned | {"__name__"}, self.at(path, node))
 
 
 if __name__ == "__main__":

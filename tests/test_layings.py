@@ -6,7 +6,7 @@ import unittest
 
 from keepwhole.changes import change_size, changed, least_change, whole_size
 from keepwhole.layings import deep, is_laying, is_stock, reads, resting, room, stock_of, way
-from tests.anything import asked, nested, never_right, spoiled
+from tests.helper import asked, nested, never_right, spoiled
 
 # Three makes; no change from 2 to 0, nor from 1 to 2.
 STOCK = ((10, 20, 30), ((0, 1, 4), (0, 2, 5), (1, 0, 6), (2, 1, 7)))
