@@ -188,3 +188,130 @@ def with_rings(stock, rings, size):
     for ring in rings:
         changes.update({pair: size for pair in zip(ring, ring[1:] + ring[:1])})
     return (stock[0], tuple((a, b, there) for (a, b), there in sorted(changes.items())))
+
+
+def nearest(stock):
+    """The least to read of each make, the makes settled one after another from the least on."""
+    found = {}
+    near = dict(enumerate(stock[0]))
+    while near:
+        make = min(near, key=lambda one: near[one])
+        found[make] = near.pop(make)
+        for a, b, size in stock[1]:
+            if a == make and b in near:
+                near[b] = min(near[b], found[a] + size)
+    return tuple(found[make] for make in range(len(stock[0])))
+
+
+def lists_in(thing):
+    """All lists within nested tuples and lists."""
+    found = [thing] if isinstance(thing, list) else []
+    if isinstance(thing, (list, tuple)):
+        for part in thing:
+            found += lists_in(part)
+    return found
+
+
+def told(case, ask, *given):
+    """What ask tells: twice the same, in lists of the asker's own, what is handed in left as it was."""
+    before = copy.deepcopy(given)
+    answer = ask(*given)
+    again = ask(*given)
+    case.assertEqual(repr(again), repr(answer), given)
+    case.assertEqual(repr(given), repr(before))
+    lists = lists_in(answer) + lists_in(again)
+    case.assertEqual(len({id(one) for one in lists}), len(lists))
+    kept = copy.deepcopy(answer)
+    for one in lists_in(again):
+        one.append("more")
+        one.reverse()
+    case.assertEqual(repr(answer), repr(kept))
+    case.assertEqual(repr(ask(*given)), repr(kept))
+    return answer
+
+
+def even_stock(wholes, sizes):
+    """The stock with these wholes, and both ways the changes of these sizes, each under a pair of makes."""
+    both = {pair[::step]: size for pair, size in sizes.items() for step in (1, -1)}
+    return (tuple(wholes), tuple((a, b, size) for (a, b), size in sorted(both.items())))
+
+
+def even_stocks(chance, makes):
+    """Even stocks of so many makes: by chance, in rows, rings and trees, and as places on a line or a plane."""
+    pairs = list(itertools.combinations(range(makes), 2))
+    stocks = []
+    for most in (1, 3, 100, 10 ** 9):
+        for share in (3, 10):
+            some = {pair: chance.randint(1, most) for pair in pairs if chance.randrange(10) < share}
+            stocks.append(even_stock([chance.randint(1, most) for _ in range(makes)], some))
+    for whole in (5, 25, 60, 10 ** 9 - 9):
+        wholes = [whole + chance.randrange(10) for _ in range(makes)]
+        order = chance.sample(range(makes), makes)
+        stocks.append(even_stock(wholes, {pair: chance.randint(1, 9) for pair in zip(order, order[1:])}))
+        ring = zip(order, order[1:] + order[:1]) if makes > 2 else []
+        stocks.append(even_stock(wholes, {pair: chance.randint(1, 30) for pair in ring}))
+        tree = [(order[at], order[chance.randint(max(0, at - 3), at - 1)]) for at in range(1, makes)]
+        stocks.append(even_stock(wholes, {pair: chance.randint(1, 9) for pair in tree}))
+    for wide, high in ((0, 90), (50, 50), (9, 90)):
+        at = [(chance.randint(-wide, wide), chance.randint(-high, high)) for _ in range(makes)]
+        wholes = [1 + abs(x) + abs(y) for x, y in at]
+        far = {(a, b): 1 + abs(at[a][0] - at[b][0]) + abs(at[a][1] - at[b][1]) for a, b in pairs}
+        stocks.append(even_stock(wholes, far))
+    return stocks
+
+
+def hub_stock(makes, top, below, whole):
+    """An even stock in which many makes close to each other are each a little too far by the least room.
+
+    A row of makes leads to a hub, and all others are by 1 away from it. The hub is just not too far from the whole
+    size of these; each of them, by the hub, just is.
+    """
+    far = top * (whole + 1) // below
+    steps = 1 + far // (whole - 1)
+    sizes = {(at, at + 1): far // steps for at in range(steps - 1)}
+    sizes.update({(steps - 1, other): 1 for other in range(steps, makes)})
+    first = far - far // steps * (steps - 1)
+    return even_stock([first] + [10 ** 9] * (steps - 1) + [whole] * (makes - steps), sizes)
+
+
+def all_kept(makes):
+    """All kept of a row of so many makes, rising."""
+    some = [rest for many in range(makes) for rest in itertools.combinations(range(1, makes), many)]
+    return sorted((0,) + rest for rest in some)
+
+
+def kept_sizes(row, kept):
+    """What each make of the row takes."""
+    return [row[0][make] if make in kept else row[1][make - 1] for make in range(len(row[0]))]
+
+
+def kept_reads(row, kept):
+    """What there is to read of each make of the row."""
+    read = []
+    for make, size in enumerate(kept_sizes(row, kept)):
+        read.append(size if make in kept else read[-1] + size)
+    return tuple(read)
+
+
+def kept_deep(row, kept):
+    """How many makes that aren't whole stand at most behind each other."""
+    deepest = since = 0
+    for make in range(len(row[0])):
+        since = 0 if make in kept else since + 1
+        deepest = max(deepest, since)
+    return deepest
+
+
+def some_row(chance, makes, whole, step):
+    """A row by chance, wholes up to the one, steps up to the other."""
+    return (
+        tuple(chance.randint(1, whole) for _ in range(makes)), tuple(chance.randint(1, step) for _ in range(makes - 1)))
+
+
+def some_rows(chance, makes):
+    """Rows of so many makes: dear and cheap steps, sizes alike and nearly so, sizes up to 10 ** 9."""
+    kinds = [(1, 1), (2, 2), (3, 1), (1, 3), (4, 4), (20, 5), (9, 9), (10, 100), (10 ** 9, 10 ** 9), (10 ** 9, 3)]
+    rows = [some_row(chance, makes, whole, step) for whole, step in kinds]
+    for whole, step in ((7, 2), (3, 3), (10 ** 9, 10 ** 9)):
+        rows.append(((whole,) * makes, (step,) * (makes - 1)))
+    return rows

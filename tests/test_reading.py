@@ -6,22 +6,10 @@ import unittest
 
 from keepwhole.layings import is_laying, reads, stock_of
 from keepwhole.reading import least_reads, soonest
-from tests.helper import all_come_to, reads_laid, room_laid, some_stock, some_stocks, tried_layings, with_rings
+from tests.helper import (
+    all_come_to, nearest, reads_laid, room_laid, some_stock, some_stocks, tried_layings, with_rings)
 
 GREAT = 10 ** 9
-
-
-def nearest(stock):
-    """The least to read of each make, the makes settled one after another from the least on."""
-    found = {}
-    near = dict(enumerate(stock[0]))
-    while near:
-        make = min(near, key=lambda one: near[one])
-        found[make] = near.pop(make)
-        for a, b, size in stock[1]:
-            if a == make and b in near:
-                near[b] = min(near[b], found[a] + size)
-    return tuple(found[make] for make in range(len(stock[0])))
 
 
 def soonest_by_words(stock):
