@@ -232,6 +232,69 @@ class Language(unittest.TestCase):
                 if token.type == tokenize.STRING and not token.string.startswith("b"):
                     self.assertEqual(re.sub(r"\\[nt\\'\"]", "", token.string).count("\\"), 0, (path.name, token.start))
 
+    def test_classes(self):
+        methods, attributes, whole = set(), set(), set()
+        for kind in (str, int, list, dict, set, bytes):
+            whole |= set(dir(kind))
+        for path, node in each_node():
+            if isinstance(node, ast.ClassDef):
+                for part in node.body:
+                    docstring = isinstance(part, ast.Expr) and isinstance(part.value, ast.Constant)
+                    self.assertTrue(docstring or isinstance(part, ast.FunctionDef), self.at(path, part))
+                names = [part.name for part in node.body if isinstance(part, ast.FunctionDef)]
+                self.assertEqual(len(names), len(set(names)), self.at(path, node))
+                methods |= set(names)
+            if isinstance(node, ast.Attribute) and isinstance(node.ctx, ast.Store):
+                attributes.add(node.attr)
+                self.assertIsInstance(node.value, ast.Name, self.at(path, node))
+        self.assertLessEqual({name for name in methods if name.startswith("__")}, {"__init__"})
+        # No name is a method here and an attribute there, and none is a method or an attribute of Python's own values.
+        self.assertEqual(methods & attributes, set())
+        self.assertEqual((methods - {"__init__"}) & (whole | UNUSED), set())
+        self.assertEqual(attributes & whole, set())
+
+    def test_values_at_module_level(self):
+        """Plain values alone, no list or dict within one, and functions of the file that stand above."""
+        plain = (ast.Constant, ast.Tuple, ast.List, ast.Dict, ast.Name, ast.Load, ast.UnaryOp, ast.USub)
+        for path in FILES:
+            above = set()
+            for node in ast.parse(path.read_text()).body:
+                if isinstance(node, ast.FunctionDef):
+                    above.add(node.name)
+                if isinstance(node, ast.Assign):
+                    for part in ast.walk(node.value):
+                        self.assertIsInstance(part, plain, self.at(path, node))
+                        if isinstance(part, (ast.List, ast.Dict)):
+                            self.assertIs(part, node.value, self.at(path, node))
+                        if isinstance(part, ast.Name):
+                            self.assertIn(part.id, above, self.at(path, node))
+
+    def test_what_a_loop_goes_over_is_not_changed_in_it(self):
+        changing = {"append", "clear", "extend", "insert", "pop", "remove", "reverse", "setdefault", "update", "sort"}
+        for path, node in each_node():
+            if not isinstance(node, ast.For):
+                continue
+            over = {ast.unparse(part) for part in ast.walk(node.iter) if isinstance(part, (ast.Name, ast.Attribute))}
+            for part in ast.walk(node):
+                changed = None
+                if isinstance(part, ast.Call) and isinstance(part.func, ast.Attribute) and part.func.attr in changing:
+                    changed = part.func.value
+                if isinstance(part, ast.Subscript) and not isinstance(part.ctx, ast.Load):
+                    changed = part.value
+                self.assertNotIn(ast.unparse(changed) if changed else None, over, self.at(path, part))
+
+    def test_own_functions_are_handed_what_they_take(self):
+        takes = {}
+        for path, node in each_node():
+            if isinstance(node, ast.FunctionDef):
+                self.assertEqual(node.args.defaults + node.args.kwonlyargs, [], self.at(path, node))
+                own = [part for part in node.args.args if part.arg != "self"]
+                takes.setdefault(node.name, set()).add(len(own))
+        for path, node in each_node():
+            if called(node) in takes:
+                self.assertEqual(node.keywords, [], self.at(path, node))
+                self.assertIn(len(node.args), takes[called(node)], self.at(path, node))
+
     def test_attributes_are_assigned_by_a_class(self):
         assigned = set()
         for path, node in each_node():
